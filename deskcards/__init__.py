@@ -1,0 +1,1 @@
+"""Deskcards: doors that learn from cards alone."""
