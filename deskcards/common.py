@@ -1,4 +1,4 @@
-"""What several modules need: kinds of values, short numbers, what events need."""
+"""What several modules need: kinds of values and short numbers."""
 
 NOT_NAMES = ("and", "do", "if", "mark", "not", "open", "shut", "then")
 
@@ -32,25 +32,3 @@ def short_number(text):
         return None
     # Python also reads digits of other scripts and leading zeros, but it never writes them.
     return int(text) if str(int(text)) == text else None
-
-
-class Needs:
-    """The least that terms must grant to let these events: skips, elder cards, the house's card."""
-
-    def __init__(self, events):
-        self.events = tuple(events)
-        self.skips = 0
-        self.elder = False
-        self.house = False
-        given = 0
-        highest_tried = 0
-        for event in self.events:
-            if event == "give":
-                self.skips = max(self.skips, given - highest_tried)
-                given += 1
-            elif event == "house":
-                self.house = True
-            else:
-                card = int(event.removeprefix("try "))
-                self.elder = self.elder or card != given
-                highest_tried = max(highest_tried, card)

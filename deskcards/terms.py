@@ -1,6 +1,6 @@
 """Terms: which stories are let."""
 
-from deskcards.common import Needs, is_number, short_number
+from deskcards.common import is_number, short_number
 from deskcards.errors import InvalidTerms, InvalidText
 
 
@@ -31,7 +31,7 @@ class Terms:
 
     def lets(self, story):
         """Whether these terms let a story."""
-        needs = Needs(story.events)
+        needs = story.needs
         if self.skips is not None and needs.skips > self.skips:
             return False
         return (self.elder or not needs.elder) and (self.house or not needs.house)

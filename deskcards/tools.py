@@ -102,12 +102,22 @@ class Tool:
 
     def answer(self, number, marks, card):
         """Whether the door opens, its number and marks behind that, and the row that was done."""
-        word = word_for(self.window, number, card)
+        opens, learns, behind, at = self.deal(word_for(self.window, number, card), marks)
+        return opens, card if learns else number, behind, at
+
+    def answer_house(self, number, marks, newest):
+        """The number and the marks of the door behind the house's card, and the row that was done."""
+        if newest <= number:
+            return number, tuple(sorted(marks)), None
+        _, learns, behind, at = self.deal("house", marks)
+        return newest if learns else number, behind, at
+
+    def deal(self, word, marks):
+        """Whether a card with this word opens and is learned, the marks behind it, and the row that was done."""
         for at, row in enumerate(self.rows):
             if is_for(row, word, marks):
-                learned = card if "learn" in row.deeds else number
-                return row.opens, learned, marks_behind(row.deeds, marks), at
-        return False, number, tuple(sorted(marks)), None
+                return row.opens, "learn" in row.deeds, marks_behind(row.deeds, marks), at
+        return False, False, tuple(sorted(marks)), None
 
     def _has_row(self, at):
         return is_number(at) and at < len(self.rows)

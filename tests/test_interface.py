@@ -54,6 +54,36 @@ CLASSES = {
             "__str__": "()",
         },
     },
+    "stories": {
+        "Story": {
+            "__init__": "(events=())",
+            "upto": "(many)",
+            "more": "(events)",
+            "read": "(text)",
+            "__len__": "()",
+            "__eq__": "(other)",
+            "__str__": "()",
+        },
+    },
+    "plays": {"Played": None},
+}
+
+FUNCTIONS = {
+    "plays": {"play": "(tool, story)"},
+    "deciding": {
+        "happens": "(tool, terms, fault)",
+        "faults": "(tool, terms)",
+        "story": "(tool, terms, fault)",
+        "fewest": "(tool, terms, fault)",
+        "comes": "(tool, terms, at)",
+        "standings": "(tool, terms)",
+    },
+    "bearing": {
+        "safe_windows": "(tool, terms, wanted)",
+        "most_skips": "(tool, terms, wanted)",
+        "needless": "(tool, terms, wanted)",
+        "mends": "(tool, terms, wanted)",
+    },
 }
 
 
@@ -77,8 +107,20 @@ class Interface(unittest.TestCase):
                         self.assertIn(method, vars(found))
                         self.assertEqual(arguments(vars(found)[method]), expected)
 
+    def test_functions(self):
+        for module, functions in FUNCTIONS.items():
+            for name, expected in functions.items():
+                with self.subTest(f"{module}.{name}"):
+                    found = getattr(importlib.import_module(f"deskcards.{module}"), name)
+                    self.assertTrue(inspect.isfunction(found))
+                    self.assertEqual(found.__module__, f"deskcards.{module}")
+                    self.assertEqual(str(inspect.signature(found)), expected)
+
+    def test_properties(self):
+        self.assertIsInstance(vars(importlib.import_module("deskcards.stories").Story)["given"], property)
+
     def test_read_is_a_class_method(self):
-        for module, name in (("rows", "Row"), ("tools", "Tool"), ("terms", "Terms")):
+        for module, name in (("rows", "Row"), ("tools", "Tool"), ("terms", "Terms"), ("stories", "Story")):
             found = getattr(importlib.import_module(f"deskcards.{module}"), name)
             self.assertIsInstance(vars(found)["read"], classmethod)
 

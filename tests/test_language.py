@@ -161,6 +161,45 @@ class Language(unittest.TestCase):
                         known = each in ("property", "staticmethod", "classmethod") or each.endswith(".setter")
                         self.assertTrue(known, (name, each))
 
+    def test_is_stands_beside_none_and_bools(self):
+        """L20"""
+        for name, tree in trees():
+            for node in ast.walk(tree):
+                if isinstance(node, ast.Compare):
+                    for sign, right in zip(node.ops, node.comparators):
+                        if isinstance(sign, (ast.Is, ast.IsNot)):
+                            self.assertIsInstance(right, ast.Constant, (name, node.lineno))
+                            self.assertIn(right.value, (None, True, False), (name, node.lineno))
+
+    def test_lists_instead_of_generators_and_sets(self):
+        """L7, L23, L24: beside classes with == there are no generator expressions, and sets are not kept in objects"""
+        for name, tree in trees():
+            for node in ast.walk(tree):
+                self.assertNotIsInstance(node, (ast.GeneratorExp, ast.Yield, ast.YieldFrom), name)
+                if isinstance(node, ast.Assign) and isinstance(node.targets[0], ast.Attribute):
+                    made = node.value
+                    self.assertNotIsInstance(made, (ast.Set, ast.SetComp), (name, node.lineno))
+                    if isinstance(made, ast.Call) and isinstance(made.func, ast.Name):
+                        self.assertNotIn(made.func.id, ("set", "frozenset"), (name, node.lineno))
+
+    def test_own_errors_are_caught(self):
+        """L19"""
+        for name, tree in trees():
+            for node in ast.walk(tree):
+                if isinstance(node, ast.ExceptHandler):
+                    self.assertIsInstance(node.type, ast.Name, (name, node.lineno))
+                    self.assertTrue(node.type.id.startswith("Invalid"), (name, node.lineno))
+                if isinstance(node, ast.Raise):
+                    self.assertIsInstance(node.exc, ast.Call, (name, node.lineno))
+
+    def test_no_lists_in_module_tables(self):
+        """L15"""
+        for name, tree in trees():
+            for node in tree.body:
+                if isinstance(node, ast.Assign):
+                    inner = [each for each in ast.walk(node.value) if each is not node.value]
+                    self.assertFalse([each for each in inner if isinstance(each, (ast.List, ast.Dict, ast.Set))], name)
+
     def test_tools_are_barred_from_iteration(self):
         """L5: a class with an index has an __iter__"""
         for name, tree in trees():

@@ -5,8 +5,9 @@ import re
 import unittest
 
 from deskcards.errors import InvalidTerms, InvalidText
+from deskcards.stories import Story
 from deskcards.terms import Terms
-from values import Told, any_values
+from values import any_values
 
 BOOLS = (False, True)
 
@@ -101,7 +102,7 @@ class Making(unittest.TestCase):
 
 class Letting(unittest.TestCase):
     def lets(self, terms, *events):
-        return terms.lets(Told(events))
+        return terms.lets(Story(events))
 
     def test_nothing_at_all_is_let(self):
         for terms in (Terms(), Terms(0), Terms(0, True, True)):
@@ -150,14 +151,15 @@ class Letting(unittest.TestCase):
         self.assertIs(self.lets(Terms(0), *told[:3]), False)
 
     def test_story_by_name(self):
-        self.assertTrue(Terms().lets(story=Told(["give"])))
+        self.assertTrue(Terms().lets(story=Story(["give"])))
 
     def test_all_short_stories(self):
         all_terms = [Terms(*each) for each in itertools.product((None, 0, 1, 2), BOOLS, BOOLS)]
         for many in range(6):
             for events in all_events(many):
+                story = Story(events)
                 for terms in all_terms:
-                    self.assertIs(self.lets(terms, *events), lets_as_in_the_document(terms, events), (str(terms), events))
+                    self.assertIs(terms.lets(story), lets_as_in_the_document(terms, events), (str(terms), events))
 
     def test_long_stories(self):
         events = ["give"] * 30 + ["try 30"] + ["give"] * 12 + ["house"]

@@ -2,6 +2,7 @@
 
 from deskcards.errors import InvalidRow, InvalidText, NoRow
 from deskcards.rows import Row
+from deskcards.stories import Story
 from deskcards.terms import Terms
 from deskcards.tools import Tool
 
@@ -22,11 +23,5 @@ def any_values():
         "marked a", "mark a", [], (), [0], [None], [[]], ["x"], ("same",), ["learn"], [True], deep(1), deep("learn"),
         Row("same"), Tool(1), Terms(), [Row("same")], (Row("same"), 1), [Tool(1)], (Terms(),),
         InvalidRow("word"), InvalidText(0), NoRow(0), [NoRow(0)],
+        "try 1", "give; try 1", "-", "shut", "stuck", "behind", Story(), Story(["give"]), [Story()], (Story(),),
     ]
-
-
-class Told:
-    """Stands for a story: terms look at its events only."""
-
-    def __init__(self, events):
-        self.events = tuple(events)
