@@ -126,6 +126,18 @@ class Door:
         """Whether a card so far ahead opens and is learned, the lot behind it, and the row that was done."""
         return self.tries[lot][max(ELDER, min(ahead, self.window + 1)) - ELDER]
 
+    def behind_try(self, number, lot, card):
+        """Whether a card opens, the number and the lot behind it, and the row that was done."""
+        opens, learns, lot, row = self.answer(lot, card - number)
+        return opens, card if learns else number, lot, row
+
+    def behind_house(self, number, lot, newest):
+        """The number and the lot behind the house's card, and the row that was done."""
+        if newest <= number:
+            return number, lot, None
+        _, learns, lot, row = self.houses[lot]
+        return newest if learns else number, lot, row
+
     def is_stuck(self, lot, ahead):
         """Whether a card so far ahead would never open, however often it were tried."""
         opens, learns, behind, _ = self.answer(lot, ahead)
@@ -200,14 +212,12 @@ class Search:
 
     def _house(self, at):
         number, lot, newest, tried, _, phase, watched = self.states[at]
-        learns = False
-        if newest > number:
-            _, learns, lot, row = self.door.houses[lot]
-            self.rows[row] = True
-        behind = (newest if learns else number, lot, newest, tried, False)
+        new_number, lot, row = self.door.behind_house(number, lot, newest)
+        self.rows[row] = True
+        behind = (new_number, lot, newest, tried, False)
         if self.fault == "told" and phase == UNWATCHED and newest > 1:
             self._reach(at, "house", (*behind, WATCHED, newest))
-        if learns:
+        if new_number > number:
             self._reach(at, "house", (*behind, phase, watched))
 
     def _cards(self, at):
@@ -221,11 +231,11 @@ class Search:
 
     def _try(self, at, card):
         number, lot, newest, tried, _, phase, watched = self.states[at]
-        opens, learns, lot, row = self.door.answer(lot, card - number)
+        opens, new_number, lot, row = self.door.behind_try(number, lot, card)
         self.rows[row] = True
         event = f"try {card}"
         highest = max(tried, card)
-        behind = (card if learns else number, lot, newest, highest, False)
+        behind = (new_number, lot, newest, highest, False)
         watch = WATCHES[self.fault]
         new_phase, new_watched = watch(phase, watched, card, newest, opens)
         if new_phase == MET:
@@ -234,7 +244,7 @@ class Search:
             self._reach(at, event, (*behind, new_phase, new_watched))
         # A card that opens need not be the one to watch; but what was met behind that is not given up.
         if phase in (UNWATCHED, new_phase):
-            if learns or self.untried(newest, highest) < self.untried(newest, tried):
+            if new_number > number or self.untried(newest, highest) < self.untried(newest, tried):
                 self._reach(at, event, (*behind, phase, watched))
 
     def _reach(self, at, event, state):

@@ -29,7 +29,7 @@ class Course:
     """A play on its way: the door, the cards, and what was met so far."""
 
     def __init__(self, tool):
-        self.tool = tool
+        self._tool = tool
         self.number = 0
         self.marks = ()
         self.newest = 0
@@ -49,16 +49,16 @@ class Course:
             self.newest += 1
         elif event == "house":
             self.housed = self.newest
-            self.number, self.marks, row = self.tool.answer_house(self.number, self.marks, self.newest)
+            self.number, self.marks, row = self._tool.answer_house(self.number, self.marks, self.newest)
         else:
             card = card_in(event)
-            opens, self.number, self.marks, row = self.tool.answer(self.number, self.marks, card)
+            opens, self.number, self.marks, row = self._tool.answer(self.number, self.marks, card)
             faults = self._faults_of_try(card, opens)
             self.opened.append(opens)
             if opens:
                 self.opening[card] = len(self.done)
         # There is a card behind each event, as the first one is a give.
-        if is_stuck(self.tool, self.number, self.marks, self.newest):
+        if is_stuck(self._tool, self.number, self.marks, self.newest):
             faults.append("stuck")
         self.met.extend([(len(self.done), fault) for fault in sorted(faults)])
         self.done.append(row)

@@ -27,6 +27,11 @@ def first_wrong(events):
     return None
 
 
+def is_try(event):
+    """Whether a card is tried in an event."""
+    return event.startswith("try ")
+
+
 def card_in(event):
     """The number of the card that is tried in an event."""
     return int(event.removeprefix("try "))

@@ -41,6 +41,20 @@ DOCUMENT = r'''
     >>> from deskcards.bearing import mends, most_skips, needless, safe_windows
     >>> most_skips(plain, Terms(0), ["shut"]), safe_windows(plain, Terms(1), ["shut"]), needless(plain, Terms(0), ["shut"]), mends(slow, Terms(0, elder=True), ["both"])
     (2, (2, 3), (2, 3), (4,))
+
+    >>> from deskcards.comparing import alike, parting
+    >>> alike(plain, slow, None), parting(plain, plain.at_window(2), 3).events, alike(plain, plain.at_window(2), 1)
+    (True, ('give', 'give', 'give', 'try 3'), True)
+
+    >>> from deskcards.telling import fits, numbers, surely_tried
+    >>> some = ["give", "give", "try 1 shut"]
+    >>> fits(plain, Terms(1), some), numbers(plain, Terms(1, elder=True), some), surely_tried(plain, Terms(1, elder=True), some)
+    (False, (2,), (1, 2))
+
+    >>> from deskcards.desk import Desk
+    >>> desk = Desk()
+    >>> desk.say("door " + " ; ".join(lines)), desk.say("do give"), desk.say("do try 1"), desk.say("number"), desk.say("faults skips any")
+    ('4', 'done', 'open', '1', 'shut stuck')
 '''
 
 
@@ -57,10 +71,10 @@ class Examples(unittest.TestCase):
         self.assertEqual(result.failed, 0, "".join(told))
 
     def test_the_document(self):
-        self.run_examples(DOCUMENT, 20)
+        self.run_examples(DOCUMENT, 28)
 
     def test_the_readme(self):
-        self.run_examples(README.read_text(), 10)
+        self.run_examples(README.read_text(), 30)
 
 
 if __name__ == "__main__":

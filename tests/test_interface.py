@@ -6,6 +6,14 @@ import inspect
 import pathlib
 import unittest
 
+from deskcards.desk import Desk
+from deskcards.live import Live
+from deskcards.plays import play
+from deskcards.rows import Row
+from deskcards.stories import Story
+from deskcards.terms import Terms
+from deskcards.tools import Tool
+
 PACKAGE = pathlib.Path(__file__).resolve().parent.parent / "deskcards"
 
 # For each module its functions and classes; for each class its arguments, and those of its methods.
@@ -66,6 +74,18 @@ CLASSES = {
         },
     },
     "plays": {"Played": None},
+    "live": {
+        "Live": {
+            "__init__": "(tool)",
+            "do": "(event)",
+            "several": "(events)",
+            "change": "(tool)",
+            "undo": "()",
+            "within": "(work)",
+            "__len__": "()",
+        },
+    },
+    "desk": {"Desk": {"__init__": "()", "say": "(command)"}},
 }
 
 FUNCTIONS = {
@@ -84,7 +104,26 @@ FUNCTIONS = {
         "needless": "(tool, terms, wanted)",
         "mends": "(tool, terms, wanted)",
     },
+    "comparing": {"alike": "(p, q, skips)", "parting": "(p, q, skips)"},
+    "telling": {
+        "fits": "(tool, terms, seen)",
+        "numbers": "(tool, terms, seen)",
+        "fitting": "(tools, terms, seen)",
+        "surely_tried": "(tool, terms, seen)",
+    },
 }
+
+# For each class the attributes that its objects have, properties among them.
+ATTRIBUTES = {
+    "Row": ("word", "tests", "deeds", "opens"),
+    "Tool": ("window", "rows", "marks"),
+    "Terms": ("skips", "elder", "house"),
+    "Story": ("events", "needs", "given"),
+    "Played": ("number", "marks", "opened", "done", "met"),
+    "Live": ("tool", "story", "played"),
+    "Desk": ("live",),
+}
+PROPERTIES = {"Story": ("given",), "Live": ("tool", "story", "played")}
 
 
 def arguments(method):
@@ -116,8 +155,15 @@ class Interface(unittest.TestCase):
                     self.assertEqual(found.__module__, f"deskcards.{module}")
                     self.assertEqual(str(inspect.signature(found)), expected)
 
-    def test_properties(self):
-        self.assertIsInstance(vars(importlib.import_module("deskcards.stories").Story)["given"], property)
+    def test_attributes_are_set_from_the_beginning(self):
+        for made in (Row("same"), Tool(1), Terms(), Story(), play(Tool(1), Story()), Live(Tool(1)), Desk()):
+            name = made.__class__.__name__
+            for attribute in ATTRIBUTES[name]:
+                with self.subTest(f"{name}.{attribute}"):
+                    self.assertTrue(hasattr(made, attribute))
+                    own = isinstance(vars(made.__class__).get(attribute), property)
+                    self.assertEqual(own, attribute in PROPERTIES.get(name, ()))
+                    self.assertEqual(attribute in vars(made), not own)
 
     def test_read_is_a_class_method(self):
         for module, name in (("rows", "Row"), ("tools", "Tool"), ("terms", "Terms"), ("stories", "Story")):

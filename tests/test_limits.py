@@ -1,17 +1,19 @@
-"""[3] the questions of [13] and [15] at the limits: windows of 3, 12 rows, two marks, elder cards, the house's card."""
+"""[3] the questions from [13] on at the limits: windows of 3, 12 rows, two marks, elder cards, the house's card."""
 
 import random
 import unittest
 
 from deskcards.bearing import mends, most_skips, needless, safe_windows
+from deskcards.comparing import alike, parting
 from deskcards.deciding import comes, faults, fewest, happens, standings, story
 from deskcards.plays import play
 from deskcards.rows import Row
 from deskcards.stories import Story
+from deskcards.telling import fits, fitting, numbers, surely_tried
 from deskcards.terms import Terms
 from deskcards.tools import Tool
 from doors import plain, played_in_the_document, some_tools
-from searches import all_standings, all_stories
+from searches import all_standings, all_stories, least_difference, sights, told_back
 
 FAULTS = ("behind", "both", "out", "shut", "stuck", "told")
 WIDEST = (Terms(3, True, True), Terms(None, True, True))
@@ -120,6 +122,114 @@ class Limits(unittest.TestCase):
             (played.number, played.marks, played.opened, played.done, played.met),
             played_in_the_document(plain().at_window(20), events),
         )
+
+
+class Compared(unittest.TestCase):
+    def check(self, p, q, skips, cards):
+        told = parting(p, q, skips)
+        self.assertIs(alike(p, q, skips), told is None)
+        least = least_difference(p, q, skips, cards)
+        if told is None:
+            self.assertIsNone(least)
+            return
+        self.assertTrue(Terms(skips, False, True).lets(told))
+        first, second = play(p, told).opened, play(q, told).opened
+        self.assertEqual((first[:-1], first[-1]), (second[:-1], not second[-1]))
+        if told.given <= cards:
+            self.assertEqual(len(told), least)
+        else:
+            # One of more cards may be told even if there is one as short with fewer.
+            self.assertTrue(least is None or len(told) <= least)
+
+    def test_all_pairs(self):
+        for p in TOOLS:
+            for q in TOOLS:
+                for skips in (3, None):
+                    self.check(p, q, skips, 4)
+
+    def test_rows_that_are_left_out(self):
+        for tool in TOOLS:
+            for at in range(len(tool)):
+                for skips in (3, None):
+                    self.check(tool, tool.without(at), skips, 8)
+
+    def test_doors_that_learn_in_the_same_way(self):
+        """They open for the newest card with some marks only, so that stories are long."""
+        source = random.Random(18)
+        lengths = []
+        for tool in TOOLS[:12]:
+            rows = [row for row in tool.rows if row.word not in ("same", "last", "elder")]
+            lots = source.sample(LOTS, 2)
+            first, second = (Tool(3, [*rows, Row("same", tests_for(lot))]) for lot in lots)
+            for skips in (0, 1, 2, 3, None):
+                self.check(first, second, skips, 12)
+                lengths.append(len(parting(first, second, skips) or ()))
+        self.assertGreater(max(lengths), 5)
+
+    def test_a_door_that_counts(self):
+        """It only opens when it has counted up to some far card."""
+        lots = [(), ("a",), ("b",), ("a", "b")]
+        slower = [Row("far", tests_for(lot), deeds_to(lots[(at + 1) - 4 * (at == 3)]), False) for at, lot in enumerate(lots)]
+        for lot in lots:
+            tool = Tool(3, [*slower, Row("same", tests_for(lot))])
+            told = parting(Tool(3, slower), tool, None)
+            # Each time four cards are given, of which the last one is tried; and it is tried once more in the end.
+            steps = lots.index(lot) or 4
+            self.assertEqual((told.given, len(told)), (4 * steps, 5 * steps + 1))
+            self.check(Tool(3, slower), tool, None, 16)
+
+
+class ToldBack(unittest.TestCase):
+    def some_seen(self, source, tool, keep):
+        """12 events that are seen of a story with 6 cards at a door."""
+        while True:
+            events = []
+            while len(events) < 24:
+                given = events.count("give")
+                choices = ["house"] + ["try"] * 4 + ["give"] * (given < 6) if given else ["give"]
+                event = source.choice(choices)
+                events.append(f"try {source.randint(1, given)}" if event == "try" else event)
+            seen = [sight for sight in sights(tool, events) if not sight.startswith("try") or source.random() < keep][:12]
+            if len(seen) == 12 and seen.count("give") == 6:
+                return seen
+
+    def check(self, tool, terms, seen):
+        found = fits(tool, terms, seen), numbers(tool, terms, seen), surely_tried(tool, terms, seen)
+        self.assertEqual(found, told_back(tool, terms, seen), (str(tool), str(terms), seen))
+        return found[0]
+
+    def test_what_is_seen_of_the_doors(self):
+        source = random.Random(19)
+        for tool in TOOLS:
+            for terms in WIDEST:
+                seen = self.some_seen(source, tool, 0.5)
+                self.assertEqual((len(seen), seen.count("give")), (12, 6))
+                fitted = self.check(tool, terms, seen)
+                self.assertTrue(fitted or terms.skips is not None)
+
+    def test_other_terms(self):
+        source = random.Random(20)
+        found = []
+        for tool in TOOLS:
+            seen = self.some_seen(source, tool, 0.3)
+            for terms in (Terms(0, True, True), Terms(1, True, True), Terms(3), Terms(None, False, True), Terms(None, True)):
+                found.append(self.check(tool, terms, seen))
+        self.assertEqual(set(found), {True, False})
+
+    def test_several_doors(self):
+        source = random.Random(21)
+        for terms in WIDEST:
+            for _ in range(4):
+                seen = self.some_seen(source, source.choice(TOOLS), 0.5)
+                expected = tuple(at for at, tool in enumerate(TOOLS) if told_back(tool, terms, seen)[0])
+                self.assertEqual(fitting(TOOLS, terms, seen), expected)
+
+    def test_six_cards_ahead_of_all_tries(self):
+        for tool in TOOLS:
+            for answers in (["open"] * 6, ["shut"] * 6, ["open", "shut"] * 3):
+                seen = ["give"] * 6 + [f"try {card} {answer}" for card, answer in zip((6, 5, 4, 3, 2, 1), answers)]
+                for terms in (*WIDEST, Terms(0, True, True)):
+                    self.check(tool, terms, seen)
 
 
 if __name__ == "__main__":

@@ -1,6 +1,9 @@
 """Values that several tests use."""
 
+from deskcards.desk import Desk
 from deskcards.errors import InvalidRow, InvalidText, NoRow
+from deskcards.live import Live
+from deskcards.plays import play
 from deskcards.rows import Row
 from deskcards.stories import Story
 from deskcards.terms import Terms
@@ -24,4 +27,5 @@ def any_values():
         Row("same"), Tool(1), Terms(), [Row("same")], (Row("same"), 1), [Tool(1)], (Terms(),),
         InvalidRow("word"), InvalidText(0), NoRow(0), [NoRow(0)],
         "try 1", "give; try 1", "-", "shut", "stuck", "behind", Story(), Story(["give"]), [Story()], (Story(),),
+        Live(Tool(1)), Desk(), play(Tool(1), Story(["give"])), [Live(Tool(1))], (Desk(),),
     ]
